@@ -1,0 +1,1 @@
+"""Onlyhigher: values written again and again on cells that can only rise."""
