@@ -61,3 +61,16 @@ def rises(state, other):
 def room(card, state):
     """Return the tops less the levels."""
     return tuple([top - level for top, level in zip(card, state)])
+
+
+def places_above(card):
+    """Return a list with an item for each state, in order: the ascending places of the states above it."""
+    rows = [[0]]
+    for top in card:
+        rows = [risen_places(row, top, least) for row in rows for least in range(top + 1)]
+    # Each row begins with the state itself.
+    return [row[1:] for row in rows]
+
+
+def risen_places(row, top, least):
+    return [at * (top + 1) + level for at in row for level in range(least, top + 1)]

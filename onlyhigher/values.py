@@ -34,3 +34,8 @@ def value_rank(value):
     if isinstance(value, str):
         return (1, value)
     return (0, value)
+
+
+def is_ascending(values):
+    ranks = [value_rank(value) for value in values]
+    return all([ahead < behind for ahead, behind in zip(ranks, ranks[1:])])

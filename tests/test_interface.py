@@ -10,6 +10,21 @@ FUNCTIONS = {
         "card_error": "value", "states": "card", "place_of": "card state", "is_above": "state other",
         "rises": "state other", "room": "card state",
     },
+    "codes": {
+        "code_error": "value", "label": "code state", "values_of": "code", "states_with": "code value",
+    },
+    "codetexts": {"code_text": "code", "read_code": "value"},
+    "strengths": {
+        "strengths": "code", "strength": "code state", "ranks_hold": "code value", "lot_strengths": "code lot",
+    },
+    "plays": {
+        "told_state": "code state value", "told_foe": "code state", "play": "code values",
+        "rises_needed": "code state many",
+    },
+    "groups": {
+        "group_error": "value", "group_members": "group", "summed": "group marks counts", "span": "group some",
+        "kills": "group character member", "characters": "group some",
+    },
 }
 
 

@@ -1,0 +1,77 @@
+"""How many values can be written one behind another, whatever a foe names."""
+
+from onlyhigher.cards import places_above
+from onlyhigher.codes import labelled_place, require_values, values_of
+from onlyhigher.errors import Unfit
+from onlyhigher.values import is_ascending, is_integer
+
+
+def strengths(code):
+    """Return the ranks of the code."""
+    return strengths_among(code, values_of(code))
+
+
+def strength(code, state):
+    """Return the strength of a labelled state."""
+    place = labelled_place(code, state)
+    return strengths(code)[place]
+
+
+def lot_strengths(code, lot):
+    """Return the strengths against a foe who names values of the lot alone."""
+    require_values(code, lot)
+    if len(lot) < 2 or not is_ascending(lot):
+        raise Unfit()
+    return strengths_among(code, lot)
+
+
+def strengths_among(code, lot):
+    card, labels = code
+    above = places_above(card)
+    ranks = [None] * len(labels)
+    # All states above a state stand behind it, so they have their ranks already.
+    for place in reversed(range(len(labels))):
+        if labels[place] is not None:
+            ranks[place] = rank_at(labels, above, ranks, lot, place)
+    return tuple(ranks)
+
+
+def rank_at(labels, above, ranks, lot, place):
+    """Return the rank of a labelled state, if the states above it have these ranks."""
+    best = best_ranks(labels, above[place], ranks)
+    return 1 + min([best.get(value, -1) for value in lot if value != labels[place]])
+
+
+def best_ranks(labels, places, ranks):
+    """Return, for each label of the states at places, the greatest rank of such a state."""
+    best = {}
+    for at in places:
+        name = labels[at]
+        if name is not None and ranks[at] > best.get(name, -1):
+            best[name] = ranks[at]
+    return best
+
+
+def ranks_hold(code, value):
+    """Tell whether value is the ranks of the code."""
+    card, labels = code
+    if not is_rank_row(labels, value):
+        return False
+    above, lot = places_above(card), values_of(code)
+    # Just one rank fits the ranks above a state: none is told too small (the foe) or too great (the writer).
+    for place, name in enumerate(labels):
+        if name is not None and value[place] != rank_at(labels, above, value, lot, place):
+            return False
+    return True
+
+
+def is_rank_row(labels, value):
+    """Tell whether value has an integer from 0 on for each label, and None for each state without one."""
+    if not isinstance(value, tuple) or len(value) != len(labels):
+        return False
+    for name, rank in zip(labels, value):
+        if (name is None) != (rank is None):
+            return False
+        if rank is not None and (not is_integer(rank) or rank < 0):
+            return False
+    return True
