@@ -74,3 +74,30 @@ def places_above(card):
 
 def risen_places(row, top, least):
     return [at * (top + 1) + level for at in row for level in range(least, top + 1)]
+
+
+def strides(card):
+    """Return, for each cell, by how much one rise of it moves the place of a state."""
+    found = []
+    stride = 1
+    for top in card[::-1]:
+        found = [stride] + found
+        stride = stride * (top + 1)
+    return found
+
+
+def next_places(card):
+    """Return a list with an item for each state, in order: the places of the states one rise above it."""
+    steps = strides(card)
+    return [
+        [place + step for level, top, step in zip(state, card, steps) if level < top]
+        for place, state in enumerate(states(card))
+    ]
+
+
+def cell_orders(many):
+    """Return the ascending list of all orders of so many cells."""
+    rows = [()]
+    for _ in range(many):
+        rows = [row + (cell,) for row in rows for cell in range(many) if cell not in row]
+    return rows

@@ -47,6 +47,15 @@ def labelled_place(code, state):
     return place
 
 
+def asked_place(code, state, value):
+    """Return the place of a labelled state at which value, one that it does not read, is asked."""
+    place = place_of(code[0], state)
+    require_values(code, (value,))
+    if code[1][place] is None or code[1][place] == value:
+        raise Unfit()
+    return place
+
+
 def values_of(code):
     """Return the ascending tuple of the values of the code."""
     found = {name: True for name in code[1] if name is not None}

@@ -3,6 +3,7 @@
 from math import lcm
 
 from onlyhigher.bounds import MAX_MODULI, MAX_ORDER
+from onlyhigher.cards import is_state
 from onlyhigher.values import is_integer
 
 
@@ -26,6 +27,11 @@ def group_members(group):
     for modulus in group:
         rows = [row + (item,) for row in rows for item in range(modulus)]
     return tuple(rows)
+
+
+def is_member(group, value):
+    # A member has the form of a state whose tops are one less than the moduli.
+    return is_state(tuple([modulus - 1 for modulus in group]), value)
 
 
 def zero_of(group):

@@ -1,18 +1,13 @@
 """What the writer and the foe are told to do, and how a row of values is written."""
 
-from onlyhigher.cards import is_above, place_of, places_above, rises, states
-from onlyhigher.codes import label, labelled_place, require_values, values_of
-from onlyhigher.errors import Unfit
+from onlyhigher.cards import is_above, places_above, rises, states
+from onlyhigher.codes import asked_place, label, labelled_place, require_values, values_of
 from onlyhigher.strengths import best_ranks, strengths
 
 
 def told_state(code, state, value):
     """Return the state to go to from state for value, None if it can't be written."""
-    card, labels = code
-    name = labels[place_of(card, state)]
-    require_values(code, (value,))
-    if name is None or name == value:
-        raise Unfit()
+    asked_place(code, state, value)
     return best_state(code, strengths(code), state, value)
 
 

@@ -26,20 +26,29 @@ def lot_strengths(code, lot):
 
 
 def strengths_among(code, lot):
-    card, labels = code
-    above = places_above(card)
+    return asked_strengths(code[1], places_above(code[0]), asks_among(code, lot))
+
+
+def asks_among(code, lot):
+    """Return, for each value of the code, the values of lot other than it."""
+    return {name: [value for value in lot if value != name] for name in values_of(code)}
+
+
+def asked_strengths(labels, above, asks):
+    """Return the strengths if writes go to the places of above, and behind a label comes what asks has for it."""
     ranks = [None] * len(labels)
     # All states above a state stand behind it, so they have their ranks already.
     for place in reversed(range(len(labels))):
-        if labels[place] is not None:
-            ranks[place] = rank_at(labels, above, ranks, lot, place)
+        name = labels[place]
+        if name is not None:
+            ranks[place] = rank_at(labels, above[place], ranks, asks[name])
     return tuple(ranks)
 
 
-def rank_at(labels, above, ranks, lot, place):
-    """Return the rank of a labelled state, if the states above it have these ranks."""
-    best = best_ranks(labels, above[place], ranks)
-    return 1 + min([best.get(value, -1) for value in lot if value != labels[place]])
+def rank_at(labels, places, ranks, asked):
+    """Return the rank of a state behind which asked comes, if the states above it, at places, have these ranks."""
+    best = best_ranks(labels, places, ranks)
+    return 1 + min([best.get(value, -1) for value in asked])
 
 
 def best_ranks(labels, places, ranks):
@@ -54,13 +63,18 @@ def best_ranks(labels, places, ranks):
 
 def ranks_hold(code, value):
     """Tell whether value is the ranks of the code."""
+    return asked_ranks_hold(code, asks_among(code, values_of(code)), value)
+
+
+def asked_ranks_hold(code, asks, value):
+    """Tell whether value is the strengths if behind a label comes what asks has for it."""
     card, labels = code
     if not is_rank_row(labels, value):
         return False
-    above, lot = places_above(card), values_of(code)
+    above = places_above(card)
     # Just one rank fits the ranks above a state: none is told too small (the foe) or too great (the writer).
     for place, name in enumerate(labels):
-        if name is not None and value[place] != rank_at(labels, above, value, lot, place):
+        if name is not None and value[place] != rank_at(labels, above[place], value, asks[name]):
             return False
     return True
 

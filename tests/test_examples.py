@@ -116,6 +116,221 @@ PART_C = """
     (True, False, True, False)
     >>> characters((4,), ((2,),)), characters((2, 4), ((1, 1),)), len(characters((2, 4), ()))
     (((0,), (2,)), ((0, 0), (1, 2)), 8)
+
+    >>> from onlyhigher.sums import makes, room_strengths, sums_code, ways_to
+    >>> sums_code((1, 1, 1), (4,), marks)[1]
+    ((0,), (3,), (2,), (1,), (1,), (0,), (3,), (2,))
+    >>> sums_code((1,), (2,), ((1,),))
+    ((1,), ((0,), (1,)))
+    >>> sums_code((1, 1), (4,), ((1,), (1,)))
+    raises Unfit()
+    >>> sums_code((1, 1, 1), (4,), ((1,), (2,), (True,)))
+    raises Unfit()
+    >>> sums_code((0, 1), (4,), None)
+    raises BadCard(('top', 0))
+
+    >>> makes((4,), marks, (1, 0, 1)), makes((4,), marks, (1, 1, 0)), makes((4,), marks, (0, 0, 0))
+    (((0,), (1,), (3,)), ((1,), (2,), (3,)), ())
+    >>> ways_to((4,), marks, (1, 1, 1), (1,)), ways_to((4,), marks, (1, 1, 1), (0,)), ways_to((4,), marks, (1, 0, 1), (2,))
+    (((0, 1, 1), (1, 0, 0)), ((1, 0, 1),), ())
+
+    >>> room_strengths((1, 1, 1), (4,), marks)
+    (0, 0, 0, 1, 0, 0, 1, 1)
+    >>> room_strengths((1, 1, 1), (2, 2), ((1, 0), (0, 1), (1, 1)))
+    (0, 0, 0, 1, 0, 1, 1, 2)
+    >>> room_strengths((3,), (2,), ((1,),)), room_strengths((1, 1), (4,), ((1,), (1,)))
+    ((0, 1, 2, 3), (0, 0, 0, 0))
+
+    >>> from onlyhigher.barring import bar, bar_holds
+    >>> bar((4,), marks, (0, 1, 0), (1,)), bar((4,), marks, (1, 0, 1), (3,))
+    (('character', (2,)), None)
+    >>> bar((4,), marks, (1, 0, 1), (2,))
+    ('sums', (((0,), (1,)), ((0,), (1,)), ((0,), (1,), (3,))))
+    >>> rows = bar((4,), marks, (1, 0, 1), (2,))[1]
+    >>> [bar_holds((4,), marks, (1, 0, 1), (2,), value) for value in (("sums", rows), ("sums", rows[:2]), ("sums", rows[:2] + (((0,), (1,)),)), ("character", (2,)), None)]
+    [True, False, False, False, False]
+    >>> [bar_holds((4,), marks, (0, 1, 0), (1,), value) for value in (("character", (2,)), ("character", (0,)), ("sums", (((0,),), ((0,), (2,)), ((0,), (2,)))))]
+    [True, False, True]
+"""
+
+PART_D = """
+    >>> from onlyhigher.compared import follows, never_weaker, pairs_hold, strikes, strikes_hold
+    >>> flat, tall, short = ((1, 1), (0, 1, 1, 0)), ((2,), (0, 1, 0)), ((1, 1), (0, 1, 1, None))
+    >>> follows(flat, tall)
+    (((0, 0), (0,)), ((0, 0), (2,)), ((0, 1), (1,)), ((1, 0), (1,)), ((1, 1), (2,)))
+    >>> follows(short, flat), follows(flat, short)
+    ((((0, 0), (1, 1)),), (((0, 0), (0, 0)), ((0, 1), (0, 1)), ((0, 1), (1, 0)), ((1, 0), (0, 1)), ((1, 0), (1, 0))))
+    >>> never_weaker(flat, tall), never_weaker(tall, flat), never_weaker(flat, short), never_weaker(short, flat)
+    (True, True, True, False)
+    >>> few = (((0, 0), (0,)), ((0, 1), (1,)), ((1, 1), (2,)))
+    >>> pairs_hold(flat, tall, few), pairs_hold(flat, tall, few[:2]), pairs_hold(flat, tall, few[1:]), pairs_hold(flat, tall, few[::-1]), pairs_hold(flat, tall, [])
+    (True, False, False, False, False)
+    >>> pairs_hold(flat, tall, few[:1] + (((0, 1), (2,)),)), pairs_hold(short, flat, follows(short, flat)), pairs_hold(flat, flat, (((0, 0), (0, 0)),))
+    (False, False, False)
+    >>> follows(flat, ((2,), (1, 0, 1)))
+    raises Unfit()
+
+    >>> strikes(flat, tall), strikes(short, flat)
+    ((((1, 1), (0,), 1),), (((0, 0), (0, 0), 2), ((0, 1), (0, 1), 1), ((0, 1), (1, 0), 1), ((1, 0), (0, 1), 1), ((1, 0), (1, 0), 1)))
+    >>> table = (((0, 0), (0, 0), 7), ((0, 1), (0, 1), 1), ((1, 0), (0, 1), 4))
+    >>> strikes_hold(short, flat, strikes(short, flat)), strikes_hold(short, flat, table), strikes_hold(short, flat, table[:2])
+    (True, True, False)
+    >>> strikes_hold(short, flat, (((0, 0), (0, 0), 4),) + table[1:]), strikes_hold(short, flat, table[1:]), strikes_hold(flat, tall, strikes(flat, tall))
+    (False, False, False)
+
+    >>> from onlyhigher.alike import alike, led
+    >>> led(flat, (1, 0), ((0, "a"), (1, "b")))
+    ((1, 1), ('a', 'b', 'b', 'a'))
+    >>> uneven = ((1, 2), (0, 1, None, 1, None, 0))
+    >>> led(uneven, (1, 0), ((0, 0), (1, 1)))
+    ((2, 1), (0, 1, 1, None, None, 0))
+    >>> alike(uneven, ((2, 1), (7, 3, 3, None, None, 7))), alike(uneven, uneven), alike(flat, tall), alike(flat, short)
+    (((1, 0), ((0, 7), (1, 3))), ((0, 1), ((0, 0), (1, 1))), None, None)
+    >>> led(flat, (1, 0), ((0, 1), (1, 0))) == ((1, 1), (1, 0, 0, 1)), led(led(uneven, (1, 0), ((0, 5), (1, 6))), (1, 0), ((5, 0), (6, 1))) == uneven
+    (True, True)
+    >>> led(flat, (0, 0), ((0, 0), (1, 1)))
+    raises Unfit()
+    >>> led(flat, (0, 1), ((0, "a"), (1, "a")))
+    raises Unfit()
+"""
+
+PART_E = """
+    >>> from onlyhigher.best import best_code
+    >>> from onlyhigher.strengths import strength
+    >>> best_code((1,), 2, 1), best_code((1,), 3, 1), best_code((1, 1), 2, 3), best_code((1, 1), 3, 2)
+    (((1,), (0, 1)), None, None, None)
+    >>> strength(best_code((1, 1), 2, 2), (0, 0)), strength(best_code((1, 1), 3, 1), (0, 0)), strength(best_code((2, 1), 2, 3), (0, 0))
+    (2, 1, 3)
+    >>> best_code((4, 1), 2, 1)
+    raises TooMany(9)
+
+    >>> from onlyhigher.trees import hopeful, no_tree, tree_holds
+    >>> hopeful((1, 1), 2, (0, "open", "open", "open")), hopeful((1, 1), 3, (0, "open", "open", "open"))
+    (2, 2)
+    >>> hopeful((1, 1), 3, (0, "open", "open", 2)), hopeful((1, 1), 3, (0, 1, 2, None)), hopeful((1, 1), 3, (0, 1, 1, "open")), hopeful((1, 1), 3, (0, 1, 1, None))
+    (1, 1, 1, 0)
+
+    >>> no_tree((1,), 3, 1), tree_holds((1, 1), 2, 3, None)
+    (((1,), (None, None, None, None)), True)
+    >>> tree = ((1, 1), (None, None, None, None))
+    >>> tree_holds((1, 1), 3, 2, tree), tree_holds((1, 1), 3, 2, None), tree_holds((1, 1), 3, 1, tree), tree_holds((1, 1), 3, 2, ((0, 1), (None,) * 4))
+    (True, False, False, False)
+    >>> tree_holds((1, 1), 3, 2, ((0, 1), (tree,) * 4)), tree_holds((1, 1), 3, 2, ((1, 1), (tree,) * 4)), tree_holds((1, 1), 3, 2, ((1, 1), (None,) * 3))
+    (True, False, False)
+    >>> tree_holds((1, 1), 3, 2, no_tree((1, 1), 3, 2)), tree_holds((2,), 2, 2, no_tree((1, 1), 3, 2))
+    (True, False)
+    >>> no_tree((1,), 2, 1)
+    raises HasCode(((1,), (0, 1)))
+    >>> no_tree((4, 1), 2, 9)
+    raises TooMany(9)
+"""
+
+PART_F = """
+    >>> from onlyhigher.kinds import asked, kind_error, kind_ranks_hold, kind_state, kind_strengths
+    >>> clock = ((3,), (0, 1, 2, 0))
+    >>> row = ((5,), ((0, 0), (0, 1), (1, 1), (1, 0), (0, 0), (0, 1)))
+    >>> short = ((3,), ((0, 0), (0, 1), (1, 0), (0, 0)))
+    >>> kind_error(clock, "up"), kind_error(clock, "name"), kind_error(row, "buffer"), kind_error(row, "both"), kind_error(row, "down")
+    (None, 'form', None, 'form', 'kind')
+    >>> asked(clock, "up", 2), asked(clock, "both", 0), asked(clock, "any", 1)
+    ((0,), (1, 2), (0, 2))
+    >>> asked(row, "buffer", (0, 1)), asked(row, "buffer", (1, 1)), asked(row, "name", (0, 1)), asked(short, "name", (0, 1))
+    (((1, 0), (1, 1)), ((1, 0),), ((0, 0), (1, 1)), ((0, 0), (1, 1)))
+    >>> asked(short, "name", (1, 1))
+    raises NoValue((1, 1))
+    >>> asked(row, "up", (0, 1))
+    raises NoKind('form')
+
+    >>> kind_strengths(clock, "any"), kind_strengths(clock, "both"), kind_strengths(clock, "up")
+    ((1, 1, 0, 0), (1, 1, 0, 0), (3, 2, 1, 0))
+    >>> kind_strengths(row, "any"), kind_strengths(row, "name"), kind_strengths(row, "buffer")
+    ((1, 1, 1, 0, 0, 0), (1, 1, 1, 0, 0, 0), (3, 2, 2, 1, 1, 0))
+    >>> kind_strengths(short, "any"), kind_strengths(short, "name")
+    ((1, 1, 0, 0), (1, 0, 0, 0))
+    >>> [kind_ranks_hold(clock, "up", value) for value in ((3, 2, 1, 0), [3, 2, 1, 0], (3, 2, 1, 1), (2, 2, 1, 0), (3, 2, True, 0), None)]
+    [True, False, False, False, False, False]
+    >>> kind_strengths(clock, "name")
+    raises NoKind('form')
+
+    >>> kind_state(row, "buffer", (0,), (0, 1)), kind_state(row, "buffer", (1,), (1, 0)), kind_state(clock, "up", (3,), 1), kind_state(short, "name", (1,), (1, 1))
+    ((1,), (3,), None, None)
+    >>> kind_state(row, "buffer", (3,), (1, 1))
+    raises Unfit()
+    >>> kind_state(clock, "up", (4,), 1)
+    raises NoState((4,))
+"""
+
+PART_G = """
+    >>> from onlyhigher.cuts import safe_orders, safe_ranks_hold, safe_strengths, safe_way, way_error
+    >>> from onlyhigher.strengths import strengths
+    >>> small = ((1, 1), (0, 0, None, 1))
+    >>> twice = ((1, 1, 1), (0, 3, 2, 1, 1, 2, 3, 0))
+    >>> way_error(small, ((0, 0), (0, 1), (1, 1))), way_error(small, ((0, 0), (1, 0), (1, 1))), way_error(small, ((0, 0), (0, 1)))
+    (None, ('label', 1), 'end')
+    >>> way_error(twice, ((0, 0, 0), (1, 0, 0))), way_error(twice, ((1, 0, 0), (1, 1, 0), (1, 1, 1)))
+    (None, ('label', 1))
+    >>> way_error(twice, ((1, 0, 0), (1, 1, 1))), way_error(twice, ((0, 0, 0), (0, 0, 2))), way_error(twice, ((0, 0, 0),)), way_error(twice, [])
+    (('rise', 1), ('state', 1), 'form', 'form')
+
+    >>> strengths(twice), safe_strengths(twice)
+    ((2, 1, 1, 0, 1, 0, 0, 0), (1, 0, 0, 0, 0, 0, 0, 0))
+    >>> safe_strengths(small), safe_strengths(((3,), (0, 1, 0, 1))), strengths(((3,), (0, 1, 0, 1)))
+    ((1, 1, None, 0), (3, 2, 1, 0), (3, 2, 1, 0))
+    >>> safe_ranks_hold(small, (1, 1, None, 0)), safe_ranks_hold(small, (1, 0, None, 0)), safe_ranks_hold(small, [1, 1, None, 0])
+    (True, False, False)
+
+    >>> safe_way(small, (0, 0), 1), safe_way(twice, (0, 0, 0), 1), safe_way(twice, (1, 0, 0), 0), safe_way(twice, (1, 0, 0), 2)
+    (((0, 0), (0, 1), (1, 1)), ((0, 0, 0), (1, 0, 0)), None, ((1, 0, 0), (1, 0, 1)))
+    >>> safe_way(small, (0, 2), 1)
+    raises NoState((0, 2))
+    >>> safe_way(small, (0, 0), 7)
+    raises NoValue(7)
+    >>> safe_way(small, (1, 0), 1)
+    raises Unfit()
+
+    >>> safe_orders(small), safe_orders(twice), safe_orders(((3,), (0, 1, 0, 1)))
+    (((1, 0),), (), ((0,),))
+    >>> safe_orders(((1, 1), (0, 1, 1, 0)))
+    ((0, 1), (1, 0))
+"""
+
+PART_H = """
+    >>> from onlyhigher.slips import all_strengths, crowded, read_as, slip_ranks_hold, stuck_strengths, turn_strengths
+    >>> from onlyhigher.strengths import strengths
+    >>> line = ((5,), (0, None, 1, None, 0, None))
+    >>> crowded(line, 0), crowded(line, 1), crowded(line, 2)
+    (None, None, ((0,), (2,)))
+    >>> read_as(line, 1, (3,)), read_as(line, 0, (3,)), read_as(line, 0, (4,))
+    (1, None, 0)
+    >>> read_as(line, 2, (3,))
+    raises Crowded(((0,), (2,)))
+    >>> read_as(line, 2, (6,))
+    raises NoState((6,))
+
+    >>> row, none = (0, None, 1, None, 0), (None,) * 5
+    >>> wide = ((2, 4), row + (None, None, 1, None, 0) + none)
+    >>> crowded(wide, 1), strengths(wide)[:5], strengths(wide)[5:10]
+    (None, (2, None, 1, None, 0), (None, None, 1, None, 0))
+    >>> turn_strengths(wide, 1)[:5], turn_strengths(wide, 1)[5:10], turn_strengths(wide, 0) == strengths(wide)
+    ((1, None, 1, None, 0), (None, None, 0, None, 0), True)
+    >>> slip_ranks_hold(wide, 1, turn_strengths(wide, 1)), slip_ranks_hold(wide, 1, strengths(wide)), slip_ranks_hold(wide, 0, strengths(wide))
+    (True, False, True)
+    >>> turn_strengths(line, 1)
+    (2, None, 1, None, 0, None)
+    >>> turn_strengths(line, 2)
+    raises Crowded(((0,), (2,)))
+
+    >>> found = all_strengths(wide, 1)
+    >>> len(found), found[0] == strengths(wide), found[1][:5], found[1][5:10]
+    (2, True, (2, None, 1, None, 0), (None, None, 0, None, 0))
+    >>> all_strengths(line, 1) == (strengths(line), strengths(line)), all_strengths(wide, 0) == (strengths(wide),)
+    (True, True)
+
+    >>> twice = ((1, 1, 1), (0, 3, 2, 1, 1, 2, 3, 0))
+    >>> strengths(twice), stuck_strengths(twice, (0,)), stuck_strengths(twice, ())
+    ((2, 1, 1, 0, 1, 0, 0, 0), (1, 0, 0, 0, 1, 0, 0, 0), (2, 1, 1, 0, 1, 0, 0, 0))
+    >>> stuck_strengths(wide, (1,))[:5], stuck_strengths(line, (0,))
+    ((0, None, 0, None, 0), (0, None, 0, None, 0, None))
 """
 
 
@@ -135,6 +350,21 @@ class Examples(unittest.TestCase):
 
     def test_part_c(self):
         run_examples(self, PART_C, {})
+
+    def test_part_d(self):
+        run_examples(self, PART_D, {})
+
+    def test_part_e(self):
+        run_examples(self, PART_E, {})
+
+    def test_part_f(self):
+        run_examples(self, PART_F, {})
+
+    def test_part_g(self):
+        run_examples(self, PART_G, {})
+
+    def test_part_h(self):
+        run_examples(self, PART_H, {})
 
 
 if __name__ == "__main__":

@@ -25,6 +25,32 @@ FUNCTIONS = {
         "group_error": "value", "group_members": "group", "summed": "group marks counts", "span": "group some",
         "kills": "group character member", "characters": "group some",
     },
+    "sums": {
+        "sums_code": "card group marks", "makes": "group marks room", "ways_to": "group marks room member",
+        "room_strengths": "card group marks",
+    },
+    "barring": {"bar": "group marks room member", "bar_holds": "group marks room member value"},
+    "compared": {
+        "follows": "code other", "never_weaker": "code other", "pairs_hold": "code other value", "strikes": "code other",
+        "strikes_hold": "code other value",
+    },
+    "alike": {"led": "code order names", "alike": "code other"},
+    "best": {"best_code": "card many least"},
+    "trees": {
+        "hopeful": "card many labels", "no_tree": "card many least", "tree_holds": "card many least value",
+    },
+    "kinds": {
+        "kind_error": "code kind", "asked": "code kind value", "kind_strengths": "code kind",
+        "kind_ranks_hold": "code kind value", "kind_state": "code kind state value",
+    },
+    "cuts": {
+        "way_error": "code value", "safe_strengths": "code", "safe_ranks_hold": "code value",
+        "safe_way": "code state value", "safe_orders": "code",
+    },
+    "slips": {
+        "crowded": "code slips", "read_as": "code slips state", "turn_strengths": "code slips",
+        "slip_ranks_hold": "code slips value", "all_strengths": "code slips", "stuck_strengths": "code cells",
+    },
 }
 
 
