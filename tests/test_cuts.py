@@ -294,6 +294,14 @@ class SafeOrders(unittest.TestCase):
         self.assertEqual(safe_orders(((3, 1), (0, 1, None, None, 1, None, 0, None))), ())
         self.assertEqual(safe_orders(((3, 1), (0, 1, 0, None, 1, None, 0, None))), ((0, 1), (1, 0)))
 
+    def test_five_cells(self):
+        # 1 is read at the full state alone, and the last cell may not rise ahead of the third one.
+        card = (1, 1, 1, 1, 1)
+        code = (card, tuple(None if state[4] > state[2] else int(state == card) for state in reference.levels(card)))
+        found = safe_orders(code)
+        self.assertTrue(same(found, reference.orders_that_do(code)))
+        self.assertTrue(0 < len(found) < 120)
+
     def test_six_cells(self):
         labels = [1] * 64
         # Each state on the way by this order, and no other one, reads 0, up to the full state.
