@@ -333,6 +333,238 @@ PART_H = """
     ((0, None, 0, None, 0), (0, None, 0, None, 0, None))
 """
 
+PART_I = """
+    >>> from onlyhigher.shares import mean_state, means, means_hold, plan_means, shares_error, spread
+    >>> twice = ((1, 1, 1), (0, 1, 2, 3, 3, 2, 1, 0))
+    >>> three = ((1, 1), ("a", "b", "c", "a"))
+    >>> even, uneven = ((0, 1), (1, 1), (2, 1), (3, 1)), (("a", 1), ("b", 2), ("c", 3))
+    >>> shares_error(twice, even), shares_error(three, uneven), shares_error(three, even), shares_error(three, list(uneven))
+    (None, None, 'values', 'form')
+    >>> shares_error(three, uneven[:2] + (("c", 0),)), shares_error(three, (("b", 2), ("a", 1, 1))), shares_error(three, uneven[::-1]), shares_error(three, ())
+    (('share', 2), ('share', 1), 'values', 'values')
+
+    >>> means(three, uneven)
+    ((13, 10), (1, 4), (1, 3), (0, 1))
+    >>> means(twice, even)
+    ((20, 9), (11, 9), (11, 9), (1, 3), (11, 9), (1, 3), (1, 3), (0, 1))
+    >>> means(((2,), (0, None, 1)), ((0, 5), (1, 7)))
+    ((1, 1), None, (0, 1))
+    >>> told = means(three, uneven)
+    >>> means_hold(three, uneven, told), means_hold(three, uneven, told[:1] + ((2, 8),) + told[2:]), means_hold(three, uneven, ((6, 5),) + told[1:]), means_hold(three, uneven, list(told))
+    (True, False, False, False)
+
+    >>> mean_state(twice, even, (0, 0, 0), 3), mean_state(twice, even, (0, 0, 1), 3), mean_state(twice, even, (0, 1, 1), 2)
+    ((1, 0, 0), (0, 1, 1), None)
+    >>> mean_state(three, uneven, (0, 1), "b")
+    raises Unfit()
+    >>> mean_state(three, uneven, (0, 1), "d")
+    raises NoValue('d')
+    >>> mean_state(three, uneven, (0, 2), "d")
+    raises NoState((0, 2))
+
+    >>> plan_means(three, uneven) == means(three, uneven), plan_means(twice, even)[0]
+    (True, (20, 9))
+    >>> spread(three, uneven), spread(twice, even)
+    (((1, (7, 10)), (2, (3, 10))), ((2, (7, 9)), (3, (2, 9))))
+"""
+
+PART_J = """
+    >>> from onlyhigher.looks import depth, least_looks, look_error, look_foe, look_foe_holds, look_tree
+    >>> first = ((1, 1), (0, 0, 1, None))
+    >>> chosen = ((1, 1, 1), (0, 0, 1, 1, 0, 1, 0, 1))
+    >>> bit = (("read", 0), ("read", 1))
+    >>> good = ("look", 0, (("look", 1, bit), ("look", 2, bit)))
+    >>> look_error(chosen, good), depth(good), depth(("read", None))
+    (None, 2, 0)
+    >>> look_error(chosen, ("look", 0, bit)), look_error(chosen, ("look", 3, bit)), look_error(chosen, ("look", 0, (("look", 1, bit), ("look", 0, bit))))
+    (('label', (0, 1, 0)), ('cell', ()), ('cell', (1,)))
+    >>> look_error(chosen, ["look", 0, bit]), look_error(chosen, ("look", True, bit)), look_error(chosen, ("look", 0, bit + bit)), look_error(chosen, ("read", "A"))
+    ('form', 'form', ('cell', ()), 'form')
+    >>> look_error(first, ("look", 0, (("read", 0), ("look", 1, (("read", 1), ("read", None))))))
+    None
+
+    >>> least_looks(chosen), depth(look_tree(chosen)), look_error(chosen, look_tree(chosen)), least_looks(first)
+    (2, 2, None, 2)
+    >>> least_looks(((1, 1), (4, 4, 7, 7))), look_tree(((1, 1), (4, 4, 7, 7)))
+    (1, ('look', 0, (('read', 4), ('read', 7))))
+
+    >>> look_foe(chosen, 2), look_foe(chosen, 5), look_foe_holds(chosen, 1, look_foe(chosen, 1)), look_foe_holds(chosen, 0, look_foe(chosen, 0))
+    (None, None, True, True)
+    >>> two = ("open", (0, 0, 0), (0, 1, 0))
+    >>> open_still = ("answers", ((0, two), (0, ("open", (0, 0, 0), (1, 0, 1))), (0, two)))
+    >>> look_foe_holds(chosen, 1, open_still), look_foe_holds(chosen, 0, open_still), look_foe_holds(chosen, 1, two), look_foe_holds(chosen, 0, two)
+    (True, False, False, True)
+    >>> look_foe_holds(chosen, 1, ("answers", open_still[1][:2])), look_foe_holds(chosen, 1, ("answers", ((1, two),) + open_still[1][1:])), look_foe_holds(chosen, 0, ("open", (0, 0, 0), (0, 0, 1)))
+    (False, False, False)
+"""
+
+PART_K = """
+    >>> from onlyhigher.together import behind, beside, first_strength, inside, lifted
+    >>> from onlyhigher.strengths import strengths
+    >>> once, parity = ((1,), (0, 1)), ((1, 1), (0, 1, 1, 0))
+    >>> strengths(once), strengths(parity)
+    ((1, 0), (2, 1, 1, 0))
+    >>> pair = beside(once, once)
+    >>> pair, strengths(pair)
+    (((1, 1), ((0, 0), (0, 1), (1, 0), (1, 1))), (1, 0, 0, 0))
+    >>> beside(pair, once)[1][:3], strengths(beside(parity, once))
+    (((0, 0, 0), (0, 0, 1), (0, 1, 0)), (1, 0, 1, 0, 1, 0, 0, 0))
+    >>> beside(beside(pair, pair), once)
+    raises Unfit()
+    >>> beside(((1,), (0, (0, 1))), once)
+    raises Unfit()
+
+    >>> behind(once, once), strengths(behind(once, once))
+    (((1, 1), (0, 1, 1, 1)), (1, 0, 0, 0))
+    >>> both = behind(once, parity)
+    >>> both, strengths(both)
+    (((1, 1, 1), (0, 1, 1, 0, 1, 1, 1, 0)), (2, 1, 1, 0, 1, 1, 1, 0))
+    >>> behind(once, ((1,), (0, 2)))
+    raises Unfit()
+
+    >>> inside(parity, once) == parity, inside(once, parity) == parity, inside(once, pair) == pair
+    (True, True, True)
+    >>> twice = inside(parity, pair)
+    >>> twice[0], twice[1][:4], strengths(twice)[0]
+    ((1, 1, 1, 1), ((0, 0), (0, 1), (0, 1), (0, 0)), 2)
+    >>> inside(parity, ((2,), (0, 1, 0)))
+    raises Unfit()
+
+    >>> lifted(once, (2, 1)), strengths(lifted(once, (2, 1)))
+    (((2, 1), (0, None, 1, None, None, None)), (1, None, 0, None, None, None))
+    >>> lifted(parity, parity[0]) == parity
+    True
+    >>> lifted(parity, (3,))
+    raises Unfit()
+
+    >>> first_strength(once), first_strength(parity), first_strength(twice), first_strength(((2,), (0, 0, 1)))
+    (0, 1, 1, 1)
+"""
+
+PART_L = """
+    >>> from onlyhigher.shelves import Shelf, edits_left
+    >>> from onlyhigher.strengths import strengths
+    >>> parity, line = ((1, 1), (0, 1, 1, 0)), ((3,), ("a", "b", "c", "a"))
+    >>> strengths(parity), strengths(line)
+    ((2, 1, 1, 0), (1, 1, 0, 0))
+    >>> edits_left(parity, ((0, 0),), 0), edits_left(parity, ((0, 1), (0, 0)), 0), edits_left(parity, ((1, 1),), 1), edits_left(parity, ((1, 1),), 2)
+    (2, 1, 2, 4)
+    >>> edits_left(parity, ((1, 1), (1, 1)), 1), edits_left(parity, ((1, 1), (0, 0)), 1)
+    (1, 2)
+    >>> edits_left(line, ((0,),), 0), edits_left(line, ((0,),), 1)
+    (1, 3)
+    >>> edits_left(parity, ((0, 2),), 0)
+    raises NoState((0, 2))
+    >>> edits_left(parity, ((0, 0),) * 6, 1)
+    raises TooMany(4096)
+
+    >>> s = Shelf(parity, ("ann", "bo"), 1)
+    >>> [s.edit("ann", 1), s.edit("ann", 0), s.edit("bo", 0), s.states(), s.find(0)]
+    ['written', 'written', 'same', ((1, 1), (0, 0)), ('ann', 'bo')]
+    >>> [s.edit("ann", 1), s.states(), s.left(), s.spare(), s.read("ann"), s.find(1)]
+    ['fresh', ((0, 1), (0, 0)), ((1, 1),), 0, 1, ('ann',)]
+    >>> [s.edit("ann", 0), s.wipe(), s.states(), s.left(), s.spare()]
+    ['written', 1, ((0, 0), (0, 0)), (), 1]
+    >>> s.edit("cy", 1)
+    raises NoName('cy')
+    >>> s.edit("ann", 2)
+    raises NoValue(2)
+    >>> t = Shelf(((1,), (0, 1)), ("ann",), 0)
+    >>> t.edit("ann", 1)
+    'written'
+    >>> t.edit("ann", 0)
+    raises Spent()
+
+    >>> from onlyhigher.tapes import blank_tape, raised, striking, tape_error, whole_records, writing
+    >>> tape = blank_tape(2, 3)
+    >>> writing(tape, 2), striking(tape), whole_records(tape)
+    ((1, 2, 4), (), ())
+    >>> first = raised(tape, writing(tape, 2))
+    >>> first, whole_records(first), writing(first, 3)
+    ((2, (0, 1, 1, 0, 1, 0, 0, 0, 0, 0, 0, 0, 0, 0, 0)), (2,), (6, 8, 9))
+    >>> torn = raised(first, writing(first, 3)[:2])
+    >>> tape_error(torn), whole_records(torn), striking(torn)
+    (None, (2,), (5, 7, 9))
+    >>> mended = raised(torn, striking(torn))
+    >>> mended[1][5:10], whole_records(mended), writing(mended, 3), striking(raised(torn, striking(torn)[:1]))
+    ((1, 1, 1, 1, 1), (2,), (11, 13, 14), (7, 9))
+    >>> writing(torn, 3)
+    raises BadTape(1)
+    >>> tape_error((2, (0, 0, 0, 0, 1))), tape_error((2, (0,) * 6)), tape_error((2, (0,) * 5 + (1,) + (0,) * 4)), tape_error([2, ()])
+    (('frame', 0), 'cells', ('frame', 1), 'form')
+
+    >>> from onlyhigher.shelves import record_of, shelf_behind
+    >>> record_of(parity, ("ann", "bo"), "bo", 1), record_of(line, ("ann", "bo"), "bo", "a")
+    (3, 3)
+    >>> shelf_behind(parity, ("ann", "bo"), 1, (1, 0, 3)).states(), shelf_behind(parity, ("ann", "bo"), 1, whole_records(mended)).read("bo")
+    (((1, 1), (0, 1)), 0)
+    >>> shelf_behind(parity, ("ann", "bo"), 1, (1, 4))
+    raises BadTape(1)
+"""
+
+PART_M = """
+    >>> from onlyhigher.benches import Bench
+    >>> b = Bench(((1, 1), (0, 1, 1, None)))
+    >>> [b.strength(), len(b), b[(1, 1)], list(b), b.relabel((1, 1), 0), b.strength(), b.version]
+    [1, 4, None, [(0, 0), (0, 1), (1, 0)], 1, 2, 1]
+    >>> [b.batch((("rename", ((0, "off"), (1, "on"))), ("lift", (2, 1)))), b.code]
+    [2, ((2, 1), ('off', 'on', 'on', 'off', None, None))]
+    >>> [b.relabel((2, 0), "off"), b.reorder((1, 0)), b.code, b.strength()]
+    [3, 4, ((1, 2), ('off', 'on', 'off', 'on', 'off', None)), 2]
+    >>> [b.undo(), b.undo(), b.redo(), b.version, b.at(0), b == Bench(b.code), b == b.code]
+    [3, 2, 3, 3, ((1, 1), (0, 1, 1, None)), True, False]
+    >>> b.relabel((0, 0), None)
+    raises BadCode('empty')
+    >>> b.batch((("relabel", (0, 0), "on"), ("rename", ())))
+    raises Rejected(1)
+    >>> b.batch((("relabel", (0, 0)),))
+    raises BadBatch()
+    >>> b.at(4)
+    raises NoVersion(4)
+
+    >>> from onlyhigher.shells import Shell
+    >>> s = Shell()
+    >>> [s.say("show"), s.say("code card 1 1 / 0 1 1 0"), s.say("strength 0,0"), s.say("told 0,0 1"), s.say("safe"), s.say("looks"), s.say("mean")]
+    ['no bench', 'ok', '2', '0,1', '2', '2', '2/1']
+    >>> [s.say("label 1,1 -"), s.say("strength 1,1"), s.say("show"), s.say("told 0,1 0"), s.say("undo"), s.say("undo")]
+    ['version 1', 'error Unfit', 'card 1 1 / 0 1 1 -', 'none', 'version 0', 'error NothingToUndo']
+    >>> [s.say("slips 1"), s.say("strength 0,2"), s.say("told 0,0 b"), s.say("code card 1 / 0"), s.say("lift 2,1"), s.say("lift 9"), s.say("strength"), s.say("go"), s.say(7)]
+    ['error Crowded', 'error NoState', 'error NoValue', 'error BadText', 'version 1', 'error BadCard', 'what', 'what', 'what']
+"""
+
+PART_N = """
+    >>> from onlyhigher.ahead import ahead_strength, failing_row, row_states
+    >>> from onlyhigher.strengths import strengths
+    >>> turn = ((1, 1), (0, 1, 1, 0))
+    >>> fork = ((3,), ("a", "b", "c", "b"))
+    >>> row_states(turn, ()), row_states(turn, (1, 0, 1)), row_states(fork, ("c", "b")), row_states(fork, ("b", "c", "b"))
+    ((), None, ((2,), (3,)), ((1,), (2,), (3,)))
+    >>> failing_row(turn), ahead_strength(turn), failing_row(fork), ahead_strength(fork)
+    ((1, 0, 1), 2, ('b', 'a'), 1)
+    >>> row_states(turn, (1, 1))
+    raises Unfit()
+    >>> row_states(turn, (1, 2, 1))
+    raises NoValue(2)
+    >>> seen = ((1, 1, 1), (0, 1, 1, 1, 2, 0, 2, 1))
+    >>> strengths(seen)[0], ahead_strength(seen), failing_row(seen)
+    (1, 2, (1, 0, 2))
+
+    >>> from onlyhigher.machines import machine_error, machine_ranks_hold, machine_state, machine_strengths
+    >>> swing, once = (((1, 1),), ((0, 0),)), (((1, 1), (0, 0)), ((1, 1),))
+    >>> machine_error(turn, swing), machine_error(turn, once), machine_error(turn, ((),)), machine_error(turn, (((1, 0), (2, 0)),)), machine_error(turn, (((1, 1),),)), machine_error(turn, [])
+    (None, None, ('room', 0), ('value', 0, 1), ('goal', 0, 0), 'form')
+
+    >>> machine_strengths(turn, swing)
+    ((2, 'ever', 'ever', 0), ('ever', 1, 1, 'ever'))
+    >>> machine_strengths(turn, once), machine_ranks_hold(turn, swing, machine_strengths(turn, swing)), machine_ranks_hold(turn, swing, ())
+    ((('ever', 1, 1, 0), ('ever', 'ever', 'ever', 0)), True, False)
+
+    >>> machine_state(turn, swing, 0, (0, 0), 1), machine_state(turn, swing, 1, (0, 1), 0), machine_state(turn, swing, 0, (1, 1), 1)
+    ((0, 1), (1, 1), None)
+    >>> machine_state(turn, swing, 0, (0, 1), 0)
+    raises Unfit()
+"""
+
 
 README = os.path.join(os.path.dirname(os.path.dirname(os.path.abspath(__file__))), "README.md")
 
@@ -365,6 +597,24 @@ class Examples(unittest.TestCase):
 
     def test_part_h(self):
         run_examples(self, PART_H, {})
+
+    def test_part_i(self):
+        run_examples(self, PART_I, {})
+
+    def test_part_j(self):
+        run_examples(self, PART_J, {})
+
+    def test_part_k(self):
+        run_examples(self, PART_K, {})
+
+    def test_part_l(self):
+        run_examples(self, PART_L, {})
+
+    def test_part_m(self):
+        run_examples(self, PART_M, {})
+
+    def test_part_n(self):
+        run_examples(self, PART_N, {})
 
 
 if __name__ == "__main__":

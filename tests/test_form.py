@@ -32,6 +32,10 @@ BARRED_NAMES = set(
 BARRED_WORDS = re.compile(
     r"\b(type|typing|typing_extensions|enum|Enum|IntEnum|StrEnum|Flag|IntFlag|Generic|Protocol|ABC|ABCMeta|namedtuple"
     r"|NamedTuple|TypedDict|TYPE_CHECKING|abstractmethod)\b|dataclass|overload|contextmanager")
+BARRED_ATTRIBUTES = set(
+    "items keys values pop update append clear extend insert remove reverse setdefault sort args encode decode hex "
+    "fromhex format format_map mro register elements open input as_integer_ratio bit_count conjugate from_bytes "
+    "is_integer to_bytes".split())
 BARRED_NODES = (
     ast.Global, ast.AsyncFunctionDef, ast.Await, ast.AsyncFor, ast.AsyncWith, ast.Import, ast.Div, ast.AnnAssign,
     ast.YieldFrom,
@@ -63,6 +67,8 @@ def bound_names(tree):
             yield node.id
         elif isinstance(node, (ast.FunctionDef, ast.ClassDef)):
             yield node.name
+        elif isinstance(node, ast.ExceptHandler) and node.name is not None:
+            yield node.name
 
 
 def imported_names(tree):
@@ -85,8 +91,16 @@ class Form(unittest.TestCase):
             self.assertLessEqual(max([0] + [len(line) for line in lines]), 120)
             for node in ast.walk(tree):
                 if isinstance(node, ast.FunctionDef):
-                    self.assertLessEqual(node.end_lineno - node.lineno + 1, 40, node.name)
-                    self.assertEqual(node.decorator_list, [])
+                    first = min([node.lineno] + [mark.lineno for mark in node.decorator_list])
+                    self.assertLessEqual(node.end_lineno - first + 1, 40, node.name)
+
+    def test_decorators(self):
+        for name, _, tree in self.each_file():
+            methods = [method for kind in classes_in(tree) for method in methods_of(kind)]
+            for node in ast.walk(tree):
+                if isinstance(node, (ast.FunctionDef, ast.ClassDef)):
+                    marks = [ast.unparse(mark) for mark in node.decorator_list]
+                    self.assertIn(marks, [[], ["property"]] if node in methods else [[]])
 
     def test_imports(self):
         links = {}
@@ -132,7 +146,12 @@ class Form(unittest.TestCase):
                 self.assertTrue(
                     docstring or plain or isinstance(node, (ast.ImportFrom, ast.FunctionDef, ast.ClassDef)), node.lineno)
                 if plain:
-                    ast.literal_eval(node.value)
+                    above = {other.name for other in tree.body[:at] if isinstance(other, ast.FunctionDef)}
+                    for word in ast.walk(node.value):
+                        if isinstance(word, ast.Name):
+                            self.assertIn(word.id, above)
+                        else:
+                            self.assertIsInstance(word, (ast.Constant, ast.Tuple, ast.List, ast.Dict, ast.Load))
 
     def test_statements_and_expressions(self):
         for name, _, tree in self.each_file():
@@ -146,7 +165,11 @@ class Form(unittest.TestCase):
                         if isinstance(sign, (ast.Is, ast.IsNot)):
                             self.assertIsInstance(behind, ast.Constant)
                 if isinstance(node, ast.ExceptHandler):
-                    self.assertIsNotNone(node.type)
+                    self.assertIn(ast.unparse(node.type), own_names(ast.parse(text_of("errors.py"))))
+                if isinstance(node, ast.Raise) and node.exc is not None:
+                    self.assertIn(ast.unparse(node.exc.func), own_names(ast.parse(text_of("errors.py"))))
+                if isinstance(node, ast.Pow):
+                    self.fail("an exponent")
 
     def test_names(self):
         known = set(dir(builtins))
@@ -158,16 +181,52 @@ class Form(unittest.TestCase):
                 self.assertNotIn(word, known)
                 self.assertNotIn(word, BARRED_NAMES)
                 self.assertNotIn(word, imported)
-                self.assertRegex(word, r"\A(_?[A-Za-z][A-Za-z0-9_]*|__init__|_)\Z")
+                self.assertRegex(word, r"\A(_?[A-Za-z][A-Za-z0-9_]*|__(init|len|eq|iter|getitem)__|_)\Z")
 
     def test_builtins_and_methods(self):
+        own = {method.name for _, _, tree in self.each_file() for kind in classes_in(tree) for method in methods_of(kind)}
         for name, _, tree in self.each_file():
             bound = set(bound_names(tree)) | set(imported_names(tree))
             for node in ast.walk(tree):
                 if isinstance(node, ast.Name) and node.id not in bound:
                     self.assertIn(node.id, BUILTINS)
                 if isinstance(node, ast.Call) and isinstance(node.func, ast.Attribute):
-                    self.assertIn(node.func.attr, METHODS)
+                    self.assertIn(node.func.attr, METHODS | own)
+                    # A class of the package compares, so lists are not sorted in place.
+                    self.assertNotEqual(node.func.attr, "sort")
+                if isinstance(node, ast.Call) and isinstance(node.func, ast.Name) and node.func.id == "reversed":
+                    self.assertIn(ast.unparse(node.args[0].func), ("range", "list", "tuple", "sorted"))
+
+    def test_classes(self):
+        given, taken = set(), set()
+        for name, _, tree in self.each_file():
+            for kind in classes_in(tree):
+                methods = [method.name for method in methods_of(kind)]
+                stored = {node.attr for node in ast.walk(kind) if is_own_attribute(node, ast.Store)}
+                self.assertEqual(len(methods), len(set(methods)))
+                self.assertFalse(stored & set(methods))
+                self.assertFalse(stored & BARRED_ATTRIBUTES)
+                self.assertNotIn("keys", stored | set(methods))
+                self.assertEqual("__getitem__" in methods, "__iter__" in methods)
+                given |= stored | set(methods)
+                taken |= {node.attr for node in ast.walk(kind) if is_own_attribute(node, ast.Load)}
+                for method in methods_of(kind):
+                    self.check_method(method)
+        self.assertLessEqual(taken, given | METHODS)
+
+    def check_method(self, method):
+        rows = [node for node in method.body if not (isinstance(node, ast.Expr) and isinstance(node.value, ast.Constant))]
+        self.assertEqual(method.args.args[0].arg, "self")
+        if method.name == "__iter__":
+            self.assertEqual(len(rows), 1)
+            self.assertRegex(ast.unparse(rows[0]), r"\Areturn iter\(self\.[a-z_]+\)\Z")
+        elif method.name == "__len__":
+            self.assertRegex(ast.unparse(rows[-1]), r"\Areturn len\(")
+        elif method.name == "__init__":
+            self.assertFalse([node for node in ast.walk(method) if isinstance(node, ast.Return)])
+        if method.name in ("__len__", "__eq__", "__getitem__", "__iter__") or method.decorator_list:
+            self.assertEqual(len(rows), 1)
+            self.assertIsInstance(rows[0], ast.Return)
 
     def test_generator_expressions_and_sets(self):
         for name, _, tree in self.each_file():
@@ -179,6 +238,19 @@ class Form(unittest.TestCase):
     def test_words(self):
         for name, _, tree in self.each_file():
             self.assertIsNone(BARRED_WORDS.search(without_comments(tree)))
+
+
+def classes_in(tree):
+    return [node for node in tree.body if isinstance(node, ast.ClassDef)]
+
+
+def methods_of(kind):
+    return [node for node in kind.body if isinstance(node, ast.FunctionDef)]
+
+
+def is_own_attribute(node, use):
+    return isinstance(node, ast.Attribute) and isinstance(node.value, ast.Name) and node.value.id == "self" and isinstance(
+        node.ctx, use)
 
 
 def own_names(tree):

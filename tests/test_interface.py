@@ -51,7 +51,47 @@ FUNCTIONS = {
         "crowded": "code slips", "read_as": "code slips state", "turn_strengths": "code slips",
         "slip_ranks_hold": "code slips value", "all_strengths": "code slips", "stuck_strengths": "code cells",
     },
+    "shares": {
+        "shares_error": "code value", "means": "code shares", "means_hold": "code shares value",
+        "mean_state": "code shares state value", "plan_means": "code shares", "spread": "code shares",
+    },
+    "looks": {
+        "look_error": "code value", "depth": "tree", "least_looks": "code", "look_tree": "code", "look_foe": "code most",
+        "look_foe_holds": "code most value",
+    },
+    "together": {
+        "beside": "code other", "behind": "code other", "inside": "code outer", "lifted": "code card",
+        "first_strength": "code",
+    },
+    "shelves": {
+        "edits_left": "code states spares", "record_of": "code names name value",
+        "shelf_behind": "code names spares records",
+    },
+    "tapes": {
+        "tape_error": "value", "blank_tape": "wide many", "whole_records": "tape", "writing": "tape record",
+        "striking": "tape", "raised": "tape places",
+    },
+    "ahead": {"row_states": "code values", "failing_row": "code", "ahead_strength": "code"},
+    "machines": {
+        "machine_error": "code value", "machine_strengths": "code machine", "machine_ranks_hold": "code machine value",
+        "machine_state": "code machine room state value",
+    },
 }
+
+# The classes by their files, with the arguments of each of their methods behind self.
+CLASSES = {
+    ("shelves", "Shelf"): {
+        "__init__": "code names spares", "states": "", "left": "", "spare": "", "read": "name", "find": "value",
+        "edit": "name value", "wipe": "", "copy": "",
+    },
+    ("benches", "Bench"): {
+        "__init__": "code", "__len__": "", "__getitem__": None, "__iter__": "", "__eq__": None, "strength": "",
+        "relabel": "state value", "rename": "names", "reorder": "order", "lift": "card", "batch": "edits", "undo": "",
+        "redo": "", "at": "version", "copy": "", "attempt": "work",
+    },
+    ("shells", "Shell"): {"say": "line"},
+}
+PROPERTIES = {("benches", "Bench"): ("code", "version")}
 
 
 class Interface(unittest.TestCase):
@@ -63,11 +103,28 @@ class Interface(unittest.TestCase):
                 self.assertTrue(inspect.isfunction(function), name)
                 self.assertEqual(function.__module__, "onlyhigher." + file)
                 self.assertEqual(function.__name__, name)
-                parameters = list(inspect.signature(function).parameters.values())
-                self.assertEqual(" ".join(parameter.name for parameter in parameters), arguments)
-                for parameter in parameters:
-                    self.assertIs(parameter.kind, inspect.Parameter.POSITIONAL_OR_KEYWORD)
-                    self.assertIs(parameter.default, inspect.Parameter.empty)
+                self.check_parameters(list(inspect.signature(function).parameters.values()), arguments)
+
+    def check_parameters(self, parameters, arguments):
+        self.assertEqual(" ".join(parameter.name for parameter in parameters), arguments)
+        for parameter in parameters:
+            self.assertIs(parameter.kind, inspect.Parameter.POSITIONAL_OR_KEYWORD)
+            self.assertIs(parameter.default, inspect.Parameter.empty)
+
+    def test_classes(self):
+        for (file, word), names in CLASSES.items():
+            kind = getattr(import_module("onlyhigher." + file), word)
+            self.assertTrue(inspect.isclass(kind))
+            self.assertEqual((kind.__module__, kind.__name__), ("onlyhigher." + file, word))
+            for name, arguments in names.items():
+                # Each method stands in the class itself.
+                method = vars(kind)[name]
+                self.assertTrue(inspect.isfunction(method), name)
+                if arguments is not None:
+                    self.check_parameters(list(inspect.signature(method).parameters.values())[1:], arguments)
+            for name in PROPERTIES.get((file, word), ()):
+                self.assertIsInstance(vars(kind)[name], property)
+                self.assertIsNone(vars(kind)[name].fset)
 
 
 if __name__ == "__main__":
