@@ -117,8 +117,9 @@ def tree_behind(card, needed, answers):
     many, what = needed[answers]
     if many == 0:
         return ("read", what)
-    levels = range(card[what] + 1)
-    return ("look", what, tuple([tree_behind(card, needed, told(answers, what, level)) for level in levels]))
+    return ("look", what, tuple([
+        tree_behind(card, needed, told(answers, what, level)) for level in range(card[what] + 1)
+    ]))
 
 
 def look_foe(code, most):
@@ -147,7 +148,7 @@ def unlike_states(code, answers):
     """Return the first two states that fit the answers and have unlike readings, the second one unlike the first."""
     fitting = [()]
     for top, level in zip(code[0], answers):
-        levels = range(top + 1) if level is None else [level]
+        levels = list(range(top + 1)) if level is None else [level]
         fitting = [row + (at,) for row in fitting for at in levels]
     readings = [label(code, state) for state in fitting]
     unlike = [state for state, reading in zip(fitting, readings) if reading != readings[0]]

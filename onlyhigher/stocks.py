@@ -8,8 +8,8 @@ from onlyhigher.strengths import best_ranks
 def stock_ranks(code, many, spares):
     """Return how many values can be written, for each row of the places of so many cards, with so many spares.
 
-    The rows are told in order, the last place first: so each card has a stride, by which the place of a row
-    moves with the place of the card. A row with a card in a state without label has None.
+    The rows stand in order, as tuples are compared: so each card has a stride, by which the place of a row moves
+    with the place of the card. A row with a card in a state without label has None.
     """
     card, labels = code
     tops = (len(labels) - 1,) * many
@@ -36,6 +36,6 @@ def card_rank(labels, above, values, ranks, fewer, card):
     read = labels[place]
     many = len(labels) * step
     best = best_ranks(labels, above[place], ranks[base:base + many:step])
-    fresh = best_ranks(labels, range(len(labels)), fewer[base:base + many:step]) if fewer else {}
+    fresh = best_ranks(labels, list(range(len(labels))), fewer[base:base + many:step]) if fewer else {}
     # A spare is taken only if the value can't be written on the card itself.
     return 1 + min([best.get(value, fresh.get(value, -1)) for value in values if value != read])

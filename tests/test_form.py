@@ -32,6 +32,7 @@ BARRED_NAMES = set(
 BARRED_WORDS = re.compile(
     r"\b(type|typing|typing_extensions|enum|Enum|IntEnum|StrEnum|Flag|IntFlag|Generic|Protocol|ABC|ABCMeta|namedtuple"
     r"|NamedTuple|TypedDict|TYPE_CHECKING|abstractmethod)\b|dataclass|overload|contextmanager")
+ITERATING = set("list tuple dict sorted sum any all min max enumerate zip reversed".split())
 BARRED_ATTRIBUTES = set(
     "items keys values pop update append clear extend insert remove reverse setdefault sort args encode decode hex "
     "fromhex format format_map mro register elements open input as_integer_ratio bit_count conjugate from_bytes "
@@ -234,6 +235,25 @@ class Form(unittest.TestCase):
                 self.assertNotIsInstance(node, (ast.GeneratorExp, ast.Yield))
             for use in set_uses(tree):
                 self.assertTrue(use)
+
+    def test_iterated_at_once(self):
+        for name, _, tree in self.each_file():
+            right = []
+            for node in ast.walk(tree):
+                if isinstance(node, (ast.For, ast.comprehension)):
+                    right.append(node.iter)
+                elif isinstance(node, ast.Call) and isinstance(node.func, ast.Name) and node.func.id in ITERATING:
+                    right.extend(node.args[:1] if node.func.id != "zip" else node.args)
+            for node in ast.walk(tree):
+                if isinstance(node, ast.Call) and (
+                        isinstance(node.func, ast.Name) and node.func.id in ("range", "zip", "enumerate", "reversed")
+                        or isinstance(node.func, ast.Attribute) and node.func.attr in ("items", "keys", "values")):
+                    self.assertTrue(any(node is found for found in right), node.lineno)
+
+    def test_no_products(self):
+        # A bench is iterated over and has a length.
+        for name, _, tree in self.each_file():
+            self.assertFalse({"product", "combinations", "permutations"} & set(imported_names(tree)))
 
     def test_words(self):
         for name, _, tree in self.each_file():

@@ -214,7 +214,8 @@ class Made(unittest.TestCase):
             self.assertEqual(len(Shelf(PARITY, NAMES[:many], 0).states()), many)
         for names in ODD_VALUES + [["a"], ("A",), ("a1",), ("a b",), ("",), ("abcdefghi",), (1,), (True,), (None,), ("b", "a"),
                                    ("a", "a"), ("a", "c", "b"), ("a", 1), (("a",),), ("a", "b", "c", "d", "e", "f", "g"), "a", "ab",
-                                   ("ab", "a"), {"a": 1}, ("a", "b", "b")]:
+                                   ("ab", "a"), {"a": 1}, ("a", "b", "b"), (1, "a"), ("A", "a"), ("a", ("b",)),
+                                   ("a", "a b", "b"), ("", "a")]:
             check_error(self, Unfit(), Shelf, PARITY, names, 0)
             check_kept(self, Shelf, PARITY, names, 0)
         self.assertEqual(Shelf(PARITY, ("a", "aa", "abcdefgh", "b"), 0).find(0), ("a", "aa", "abcdefgh", "b"))
@@ -265,10 +266,12 @@ class Edits(unittest.TestCase):
         shelf = Shelf(PARITY, ("ann", "bo"), 1)
         for name in ODD_VALUES + ["an", "annn", "cy", ("ann",), ["bo"], 0]:
             check_given(self, NoName, name, shelf.read, name)
+            check_kept(self, shelf.edit, name, 0)
             for value in (0, 1, 2, None, []):
                 check_given(self, NoName, name, shelf.edit, name, value)
         for value in ODD_VALUES + [2, "0", (0,), [1], "ann"]:
             check_given(self, NoValue, value, shelf.edit, "ann", value)
+            check_kept(self, shelf.edit, "ann", value)
             self.assertEqual(shelf.find(value), ())
         self.assertEqual(shelf.find(True), ())
         self.assertEqual(shelf.find(False), ())
