@@ -32,6 +32,8 @@ BARRED_NAMES = set(
 BARRED_WORDS = re.compile(
     r"\b(type|typing|typing_extensions|enum|Enum|IntEnum|StrEnum|Flag|IntFlag|Generic|Protocol|ABC|ABCMeta|namedtuple"
     r"|NamedTuple|TypedDict|TYPE_CHECKING|abstractmethod)\b|dataclass|overload|contextmanager")
+BARRED_STARTS = re.compile(
+    r"_(pe_|dcw_|enum_|cm_|twin_re_|lay_|law_|stub_|sre|(cold|tuplegetter|outside|record|written_out|member_names)[0-9_]*\Z)")
 ITERATING = set("list tuple dict sorted sum any all min max enumerate zip reversed".split())
 BARRED_ATTRIBUTES = set(
     "items keys values pop update append clear extend insert remove reverse setdefault sort args encode decode hex "
@@ -208,6 +210,8 @@ class Form(unittest.TestCase):
                 self.assertFalse(stored & set(methods))
                 self.assertFalse(stored & BARRED_ATTRIBUTES)
                 self.assertNotIn("keys", stored | set(methods))
+                for word in stored | set(methods):
+                    self.assertIsNone(BARRED_STARTS.match(word), word)
                 self.assertEqual("__getitem__" in methods, "__iter__" in methods)
                 given |= stored | set(methods)
                 taken |= {node.attr for node in ast.walk(kind) if is_own_attribute(node, ast.Load)}
